@@ -1,0 +1,1 @@
+"""Everybase: programs that reckon with figures, in all bases at once."""
