@@ -15,6 +15,20 @@ INTERFACE = {
               "InvalidWorth InvalidCommand NoRow NoPlace NoName",
     "figures": "figures_of number_of turned least greatest total many root figure first last joined mirrored unlike",
     "rows": "Row Test Put If Times Stop Ask Not",
+    "programs": "Program Sheet",
+    "runs": "run came_to holds",
+    "measures": "measures",
+}
+# What stands in the body of a class itself.
+METHODS = {
+    "Put": "__init__ __eq__ __str__",
+    "If": "__init__ __eq__ __str__",
+    "Times": "__init__ __eq__ __str__",
+    "Stop": "__eq__ __str__",
+    "Ask": "__init__ __eq__ __str__",
+    "Not": "__init__ __eq__ __str__",
+    "Program": "__init__ read without replaced __call__ __len__ __getitem__ __add__ __eq__ __str__",
+    "Sheet": "__init__ drop made trial within __len__ __getitem__ __setitem__ __iadd__",
 }
 BUILTINS = set(
     "len range enumerate zip min max sum abs sorted reversed int str bool bytes list tuple dict set frozenset "
@@ -78,6 +92,13 @@ class Interface(unittest.TestCase):
             defined = [node.name for node in tree.body if isinstance(node, (ast.FunctionDef, ast.ClassDef))]
             for name in names.split():
                 self.assertEqual(defined.count(name), 1, f"{module}.{name}")
+
+    def test_methods_stand_in_the_class_itself(self):
+        bodies = {node.name: node.body for _, tree in trees() for node in tree.body if isinstance(node, ast.ClassDef)}
+        for name, methods in METHODS.items():
+            defined = [node.name for node in bodies[name] if isinstance(node, ast.FunctionDef)]
+            for method in methods.split():
+                self.assertEqual(defined.count(method), 1, f"{name}.{method}")
 
     def test_init_holds_a_docstring_alone(self):
         tree = ast.parse((FOLDER / "__init__.py").read_text())
@@ -149,6 +170,33 @@ class Rules(unittest.TestCase):
                     self.assertNotIsInstance(node.value, (float, complex), path)
                     if isinstance(node.value, str):
                         self.assertNotIn("%", node.value, (path, node.lineno))
+
+    def test_no_object_is_iterated_by_its_index(self):
+        """L5: a class with an index says that it is not iterable."""
+        for path, tree in trees():
+            for node in [one for one in tree.body if isinstance(one, ast.ClassDef)]:
+                defined = {one.name for one in node.body if isinstance(one, ast.FunctionDef)}
+                self.assertTrue("__iter__" in defined or "__getitem__" not in defined, (path, node.name))
+
+    def test_no_name_is_a_method_and_an_attribute_of_one_class(self):
+        """L18."""
+        for path, tree in trees():
+            for node in [one for one in tree.body if isinstance(one, ast.ClassDef)]:
+                methods = {one.name for one in node.body if isinstance(one, ast.FunctionDef)}
+                stored = {one.attr for one in ast.walk(node)
+                          if isinstance(one, ast.Attribute) and isinstance(one.ctx, ast.Store)}
+                self.assertFalse(methods & stored, (path, node.name))
+
+    def test_nothing_has_the_name_of_a_class_or_an_import_of_its_file(self):
+        """L15."""
+        for path, tree in trees():
+            taken = {one.name for one in tree.body if isinstance(one, ast.ClassDef)}
+            taken |= {alias.name for node in imports(tree) for alias in node.names}
+            for node in ast.walk(tree):
+                if isinstance(node, ast.arg):
+                    self.assertNotIn(node.arg, taken, path)
+                elif isinstance(node, ast.Name) and isinstance(node.ctx, ast.Store):
+                    self.assertNotIn(node.id, taken, path)
 
     def test_names(self):
         """L8, L15, L17: no other builtin is used, and none has another meaning."""

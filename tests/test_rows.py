@@ -6,7 +6,7 @@ import unittest
 from everybase import rows
 from everybase.errors import FigureError, InvalidRow
 from everybase.rows import Ask, If, Not, Put, Row, Stop, Test, Times
-from tests.samples import NO_NAMES, NO_NUMBERS, NO_SEQUENCES, SAME, THINGS, X_LET_Y
+from tests.samples import NO_NAMES, NO_NUMBERS, NO_ROWS, SAME, THINGS, X_LET_Y
 
 # The deeds with the kinds of what stands behind them (n a name, k a number), and a text of theirs.
 DEEDS = {
@@ -41,10 +41,6 @@ NO_WORDS = (
     "", "Same", "not", "equal", "same ", "same x", "x", "if", "names", "word", 0, 2, True, False, None,
 ) + THINGS
 NO_TESTS = (None, True, False, 0, 1, "", "same x y", "x", [], (), [SAME], (SAME,), X_LET_Y, Stop(), Times(1, ()))
-NO_ROWS = NO_SEQUENCES + (
-    [None], ["stop"], ("x = base",), [X_LET_Y, SAME], (SAME,), [Stop(), 0], [[X_LET_Y]], ((),), (Stop(), (Stop(),)),
-    [X_LET_Y, None, X_LET_Y], [True],
-)
 GOOD_NAMES = ("a", "z", "xy", "abc", "abcd", "zzzz", "let", "base", "sum", "if", "end", "else", "stop", "not")
 
 
