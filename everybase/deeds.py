@@ -27,7 +27,22 @@ def holding(test, held, base):
     """Whether a test holds for what names hold, by a dict; names that are not in it hold 0."""
     ask, alike = bare(test)
     told = [held.get(name, 0) for name in ask.names]
-    return _asked(ask.word, told, base) == alike
+    return holding_of(ask.word, told, base) == alike
+
+
+def holding_of(word, told, base):
+    """Whether a test with this word holds for these numbers."""
+    match word:
+        case "same":
+            return told[0] == told[1]
+        case "less":
+            return told[0] < told[1]
+        case "divides":
+            return _divides(told[0], told[1])
+        case "mirrored":
+            return mirrored(told[0], base)
+        case _:
+            return unlike(told[0], base)
 
 
 def _written(figures, base):
@@ -92,21 +107,6 @@ def _power(x, k):
     for _ in range(k):
         power = power * x
     return power
-
-
-def _asked(word, told, base):
-    """Whether a test with this word holds for these numbers."""
-    match word:
-        case "same":
-            return told[0] == told[1]
-        case "less":
-            return told[0] < told[1]
-        case "divides":
-            return _divides(told[0], told[1])
-        case "mirrored":
-            return mirrored(told[0], base)
-        case _:
-            return unlike(told[0], base)
 
 
 def _divides(x, y):
