@@ -44,6 +44,15 @@ def test_of(words):
     return test
 
 
+def number_told(word, most):
+    """The number that a word writes in at most so many digits, without leading zeros, or None if it writes none."""
+    if not 1 <= len(word) <= most or not all([one in DIGITS for one in word]):
+        return None
+    if word[0] == "0" and word != "0":
+        return None
+    return int(word)
+
+
 class Block:
     """A block from its first line on, while its `end` is not read."""
 
@@ -142,8 +151,5 @@ def _ask_of(words):
 
 def _plain(word):
     """The number that a word writes, or the word itself if it writes none."""
-    if not 1 <= len(word) <= MOST_DIGITS or not all([one in DIGITS for one in word]):
-        return word
-    if word[0] == "0" and word != "0":
-        return word
-    return int(word)
+    number = number_told(word, MOST_DIGITS)
+    return word if number is None else number

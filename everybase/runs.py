@@ -67,9 +67,13 @@ class Walk:
             raise Stopped(at)
         self.held[row.name] = number
 
+    def decide(self, test):
+        """Whether a test holds for what the names hold."""
+        return holding(test, self.held, self.among)
+
     def choose(self, row, at):
         """Does the rows of an `If`, or its others."""
-        if holding(row.test, self.held, self.among):
+        if self.decide(row.test):
             self.go(row.rows, at + 1)
         else:
             self.go(row.others, at + 1 + len(flat(row.rows)))

@@ -18,6 +18,13 @@ INTERFACE = {
     "programs": "Program Sheet",
     "runs": "run came_to holds",
     "measures": "measures",
+    "terms": "Term",
+    "bases": "Bases",
+    "worths": "Worth",
+    "books": "book Book",
+    "alike": "alike least_parting partings sure least_breach needless",
+    "papers": "paper paper_holds",
+    "desk": "Desk",
 }
 # What stands in the body of a class itself.
 METHODS = {
@@ -29,6 +36,15 @@ METHODS = {
     "Not": "__init__ __eq__ __str__",
     "Program": "__init__ read without replaced __call__ __len__ __getitem__ __add__ __eq__ __str__",
     "Sheet": "__init__ drop made trial within __len__ __getitem__ __setitem__ __iadd__",
+    "Term": "__init__ degree __call__ moved is_whole sure_from __add__ __radd__ __sub__ __rsub__ __mul__ __rmul__ __pow__ "
+            "__neg__ __eq__ __str__",
+    "Bases": "none every of rest upward lowest size below nth __and__ __or__ __sub__ __xor__ __invert__ __le__ __lt__ "
+             "__ge__ __gt__ __eq__ __contains__ __bool__ __str__",
+    "Worth": "number base figures bases __call__ turned least greatest total many root figure first last joined common "
+             "lesser same less divides mirrored unlike within __add__ __radd__ __sub__ __rsub__ __mul__ __rmul__ "
+             "__floordiv__ __rfloordiv__ __mod__ __rmod__ __pow__ __or__ __ror__ __le__ __lt__ __ge__ __gt__ __eq__",
+    "Book": "__init__ stops comes where tale __call__ __getitem__ __eq__",
+    "Desk": "__init__ say undo __len__",
 }
 BUILTINS = set(
     "len range enumerate zip min max sum abs sorted reversed int str bool bytes list tuple dict set frozenset "
