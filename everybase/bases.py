@@ -176,10 +176,11 @@ def _firsts(bases):
 def _combined(sign, one, other):
     """What an operator makes of two sets."""
     period = lcm(one.period, other.period)
-    marks = [
-        _holds(sign, rest % one.period in one.among_rests, rest % other.period in other.among_rests)
-        for rest in range(period)
-    ]
+    marks = _both(
+        sign,
+        [rest % one.period in one.among_rests for rest in range(period)],
+        [rest % other.period in other.among_rests for rest in range(period)],
+    )
     # Both sets depend on rests alone from here on.
     end = one.start if one.start > other.start else other.start
     if sign == "&":
@@ -193,17 +194,18 @@ def _combined(sign, one, other):
     return _settled(end, sorted([int(base) for base in lone]), marks)
 
 
-def _holds(sign, one, other):
-    """Whether a base is in what an operator makes of two sets, by whether it is in each of them."""
+def _both(sign, ones, others):
+    """The marks that an operator makes of those of two sets."""
+    pairs = list(zip(ones, others))
     match sign:
         case "&":
-            return one and other
+            return [one and other for one, other in pairs]
         case "|":
-            return one or other
+            return [one or other for one, other in pairs]
         case "-":
-            return one and not other
+            return [one and not other for one, other in pairs]
         case _:
-            return one != other
+            return [one != other for one, other in pairs]
 
 
 def _listed(bases, other, wanted, end):

@@ -144,14 +144,15 @@ def _right_common(span, x, y, z, more):
         return False
     if plus(times(p, plain(u)), times(q, plain(v))) != plain(w):
         return False
-    rest, period = span.part
-    for one in along(p, rest, period)[2:]:
-        if one % (p[0] * w) != 0:
-            return False
-    for one in along(q, rest, period)[2:]:
-        if one % (q[0] * w) != 0:
-            return False
+    if not _goes_by(span, p, w) or not _goes_by(span, q, w):
+        return False
+    rest = span.part[0]
     return gcd(gcd(value(p, rest), value(q, rest)), w) == 1
+
+
+def _goes_by(span, x, w):
+    """Whether the coefficients of x along the bases of a span, but the first one, are integers divisible by w."""
+    return all([one % (x[0] * w) == 0 for one in along(x, span.part[0], span.part[1])[2:]])
 
 
 def _right_same(span, x, y, outcome):

@@ -15,7 +15,8 @@ from tests.reference import asked, reference
 from tests.samples import program
 
 BASES = tuple(range(2, 70)) + BIG
-SETS = (None, Bases.none(), Bases.every(), Bases.of([2, 7, 30]), Bases.rest(3, -1), Bases.upward(12), ~Bases.rest(2, 0) | Bases.of([4]),
+SETS = (None, Bases.none(), Bases.every(), Bases.of([2, 7, 30]), Bases.rest(3, -1), Bases.upward(12),
+        ~Bases.rest(2, 0) | Bases.of([4]),
         Bases.of([10 ** 30]), Bases.upward(10 ** 30))
 
 
@@ -39,13 +40,16 @@ PAIRS = (
     ("x = base ; x = x + x", "x = figures 2 0", "2"), ("x = figures 1 1 ; x = x * x", "x = figures 1 2 1", "2"),
     ("x = base", "x = base ; y = let z", "none"), ("x = base", "x = base ; y = number 1", "from 2: 0 of 1"),
     ("x = base ; x = q - x ; y = base", "z = base ; stop", "none"), ("stop", "x = base ; stop ; stop", "none"),
-    ("stop", "", "from 2: 0 of 1"), ("", "", "none"), ("x = let y", "", "none"), ("x = base", "y = base", "from 2: 0 of 1"),
+    ("stop", "", "from 2: 0 of 1"), ("", "", "none"), ("x = let y", "", "none"),
+    ("x = base", "y = base", "from 2: 0 of 1"),
     ("x = base ; y = number 9 ; z = x - y", "x = base ; y = number 9 ; z = x - y ; z = x - y", "none"),
     ("x = base ; y = number 5 ; x = x * y", "x = base ; y = number 5 ; x = x * x", "2 3 4, from 6: 0 of 1"),
     ("x = base ; y = number 20", "x = base ; y = number 20 ; if same x y ; x = let z ; end", "20"),
-    ("x = base ; y = number 6 ; z = common x y", "x = base ; y = number 6 ; if divides y x ; z = let y ; else ; z = number 1 ; end",
+    ("x = base ; y = number 6 ; z = common x y",
+     "x = base ; y = number 6 ; if divides y x ; z = let y ; else ; z = number 1 ; end",
      "from 2: 2 3 4 of 6"),
-    ("x = base ; y = number 2 ; z = rest x y", "x = base ; y = number 2 ; z = rest x y ; if same z q ; z = let q ; end", "none"),
+    ("x = base ; y = number 2 ; z = rest x y", "x = base ; y = number 2 ; z = rest x y ; if same z q ; z = let q ; end",
+     "none"),
     ("x = base ; y = number 2 ; z = rest x y", "x = base ; y = number 2", "from 2: 1 of 2"),
     ("x = base ; y = number 50 ; z = lesser x y", "x = base ; y = number 50 ; z = let x", "from 51: 0 of 1"),
     ("x = base ; y = number 3 ; z = x * y", "x = base ; y = number 2 ; z = x + x ; y = number 3", "from 2: 0 of 1"),
@@ -106,7 +110,8 @@ class Alike(unittest.TestCase):
         self.assertTrue(is_measured(p) and is_measured(q))
         self.assertEqual(str(partings(p, q)), "from 2: 0 of 1")
         self.assertEqual(least_parting(p, q, within=Bases.rest(360, 1)), 361)
-        p, q = lines("x = base ; y = number 64 ; x = rest x y"), lines("x = base ; y = number 63 ; x = rest x y ; y = number 64")
+        p = lines("x = base ; y = number 64 ; x = rest x y")
+        q = lines("x = base ; y = number 63 ; x = rest x y ; y = number 64")
         told = partings(p, q)
         self.assertEqual((told.lowest, told.period, len(told.rests)), (63, 4032, 4032 - 63))
 
@@ -122,10 +127,13 @@ class Sure(unittest.TestCase):
 
     def test_examples(self):
         for text, test, breach in (
-            ("x = base ; y = number 9 ; z = x - y", "less z x", None), ("x = base ; y = number 9 ; z = x - y", "less z y", 18),
-            ("x = base ; y = number 9 ; z = x - y", "not less z y", 9), ("x = base ; y = number 9 ; z = x - y", "not same x z", None),
+            ("x = base ; y = number 9 ; z = x - y", "less z x", None), ("x = base ; y = number 9 ; z = x - y",
+                "less z y", 18),
+            ("x = base ; y = number 9 ; z = x - y", "not less z y", 9),
+            ("x = base ; y = number 9 ; z = x - y", "not same x z", None),
             ("stop", "less x x", None), ("stop", "not less x x", None), ("", "same x y", None), ("", "not same x y", 2),
-            ("x = figures 1 2 1", "mirrored x", None), ("x = figures 1 2 1", "not unlike x", None), ("x = figures 1 2 1", "unlike x", 3),
+            ("x = figures 1 2 1", "mirrored x", None), ("x = figures 1 2 1", "not unlike x", None),
+            ("x = figures 1 2 1", "unlike x", 3),
             ("x = base ; y = number 6", "divides y x", 2), ("x = base ; y = number 6", "not divides x y", 2),
             ("x = base ; y = number 6", "not divides y x", 6), ("x = base ; y = number 40", "not not not same x y", 40),
             ("x = base ; y = number 3 ; y = rest x y ; if same y z ; stop ; end ; y = x * x", "not divides x z", 2),
@@ -135,7 +143,8 @@ class Sure(unittest.TestCase):
             self.assertIs(sure(one, ask), breach is None)
 
     def test_many_beside_runs(self):
-        for one, test in made(4, 150) + [(one, test) for one in SAMPLES for test in (Ask("less", "z", "x"), Not(Ask("unlike", "x")))]:
+        for one, test in made(4, 150) + [(one, test) for one in SAMPLES for test in (Ask("less", "z", "x"),
+            Not(Ask("unlike", "x")))]:
             if not is_measured(one, test):
                 continue
             words, held = str(test).split(), list(zip(BASES, ends(one)))
@@ -169,10 +178,13 @@ class Needless(unittest.TestCase):
 
     def test_examples(self):
         for text, numbers in (
-            ("", ()), ("x = base", ()), ("x = let y", (0,)), ("x = number 0", (0,)), ("stop", ()), ("stop ; stop", (0, 1)),
-            ("x = base ; x = base", (0, 1)), ("x = number 1 ; x = base", (0,)), ("x = base ; y = let x ; y = let x", (1, 2)),
+            ("", ()), ("x = base", ()), ("x = let y", (0,)), ("x = number 0", (0,)), ("stop", ()),
+            ("stop ; stop", (0, 1)),
+            ("x = base ; x = base", (0, 1)), ("x = number 1 ; x = base", (0,)),
+            ("x = base ; y = let x ; y = let x", (1, 2)),
             # A row behind a stop, a block around one that is needed, and one in a block.
-            ("stop ; x = base", (1,)), ("times 2 ; x = base ; x = base ; end", (1, 2)), ("times 0 ; stop ; end", (0, 1)),
+            ("stop ; x = base", (1,)), ("times 2 ; x = base ; x = base ; end", (1, 2)),
+            ("times 0 ; stop ; end", (0, 1)),
             ("x = base ; if same x y ; x = number 4 ; end", (1, 2)),
             ("x = base ; y = number 40 ; if less y x ; else ; y = number 3 ; y = number 4 ; end", (3,)),
             ("x = base ; y = number 1000 ; if same x y ; y = number 99 ; end".replace("1000", "99"), (2, 3)),

@@ -59,9 +59,12 @@ class Making(unittest.TestCase):
         for bases, text in (
             (Bases.none(), "none"), (Bases.every(), "from 2: 0 of 1"), (Bases.of([]), "none"), (Bases.of([2]), "2"),
             (Bases.of((5, 3, 5)), "3 5"), (Bases.of([2, 3, 4]), "2 3 4"), (Bases.rest(1, 0), "from 2: 0 of 1"),
-            (Bases.rest(1, -7), "from 2: 0 of 1"), (Bases.rest(2, 1), "from 2: 1 of 2"), (Bases.rest(4, 11), "from 2: 3 of 4"),
-            (Bases.rest(4, -1), "from 2: 3 of 4"), (Bases.rest(100, -1), "from 2: 99 of 100"), (Bases.upward(2), "from 2: 0 of 1"),
-            (Bases.upward(-5), "from 2: 0 of 1"), (Bases.upward(1), "from 2: 0 of 1"), (Bases.upward(9), "from 9: 0 of 1"),
+            (Bases.rest(1, -7), "from 2: 0 of 1"), (Bases.rest(2, 1), "from 2: 1 of 2"),
+            (Bases.rest(4, 11), "from 2: 3 of 4"),
+            (Bases.rest(4, -1), "from 2: 3 of 4"), (Bases.rest(100, -1), "from 2: 99 of 100"),
+            (Bases.upward(2), "from 2: 0 of 1"),
+            (Bases.upward(-5), "from 2: 0 of 1"), (Bases.upward(1), "from 2: 0 of 1"),
+            (Bases.upward(9), "from 9: 0 of 1"),
             (Bases.of([10 ** 30]), str(10 ** 30)), (Bases.upward(10 ** 30), f"from {10 ** 30}: 0 of 1"),
         ):
             self.assertEqual(str(bases), text)
@@ -217,7 +220,8 @@ class Looking(unittest.TestCase):
         self.assertEqual(Bases.of([5]).below(10 ** 40), 1)
 
     def test_nth(self):
-        for bases in (Bases.every(), Bases.rest(6, 1) | Bases.rest(6, 2) | Bases.of([3, 4]), Bases.upward(9) | Bases.of([2]),
+        for bases in (Bases.every(), Bases.rest(6, 1) | Bases.rest(6, 2) | Bases.of([3, 4]),
+                      Bases.upward(9) | Bases.of([2]),
                       Bases.rest(5, 0) - Bases.of([5])):
             for k, base in enumerate(itertools.islice(sorted(members(bases)), 40)):
                 self.assertEqual(bases.nth(k), base)

@@ -16,7 +16,8 @@ from tests.reference import asked, reference
 from tests.samples import NO_BASES, NO_NAMES, NO_PLACES, fields, program
 
 BASES = tuple(range(2, 70)) + BIG
-ASKS = (Ask("same", "x", "y"), Ask("less", "x", "z"), Ask("divides", "y", "x"), Ask("mirrored", "z"), Ask("unlike", "x"),
+ASKS = (Ask("same", "x", "y"), Ask("less", "x", "z"), Ask("divides", "y", "x"), Ask("mirrored", "z"),
+        Ask("unlike", "x"),
         Not(Ask("same", "z", "u")), Not(Not(Ask("divides", "z", "y"))), Not(Ask("mirrored", "u")))
 HALF = program("x = figures 1 0 0", "y = number 2", "z = x // y", "u = z - y", "if divides y x", "u = turned u", "end")
 
@@ -38,7 +39,8 @@ class Beside(unittest.TestCase):
             for name in one.names:
                 self.assertEqual(worths[name](base), None if held is None else held.get(name, 0), (text, base, name))
             if base >= told.start:
-                self.assertEqual(self.told_at(told, base), stop if held is None else {n: held.get(n, 0) for n in one.names})
+                self.assertEqual(self.told_at(told, base), stop if held is None else {n: held.get(n,
+                    0) for n in one.names})
         self.assert_least(told, text)
 
     def told_at(self, told, base):
@@ -82,8 +84,10 @@ class Beside(unittest.TestCase):
         for one in (
             program("x = figures 31 1 11", "x = x * x", "y = base", "y = turned y", "y = joined x y"),
             program("x = base", "y = number 15", "z = x // y", "z = z * z", "z = turned z"),
-            program("x = figures 1 0 0 0", "y = number 19", "z = rest x y", "y = number 5", "u = rest x y", "z = z + u"),
-            program("x = figures 35 35", "times 3", "if unlike x", "times 3", "y = x + y", "end", "else", "stop", "end", "end"),
+            program("x = figures 1 0 0 0", "y = number 19", "z = rest x y", "y = number 5", "u = rest x y",
+                    "z = z + u"),
+            program("x = figures 35 35", "times 3", "if unlike x", "times 3", "y = x + y", "end", "else", "stop", "end",
+                    "end"),
             program("x = base", "y = number 70", "z = x // y", "u = greatest x"),
         ):
             length, size, period = measures(one)
@@ -160,7 +164,8 @@ class Books(unittest.TestCase):
         self.assertEqual(str(told.stops()), str(~(Bases.rest(6, 0) - Bases.of([6, 12, 18, 24, 30, 36]))))
         self.assertEqual([str(told.stops(at)) for at in (0, 2, 4)], ["none", "none", "6 12 18 24 30 36"])
         self.assertEqual(told.stops(5), ~Bases.rest(6, 0))
-        self.assertEqual([told.comes(at) for at in range(6)], [Bases.every()] * 3 + [Bases.rest(6, 0)] * 2 + [~Bases.rest(6, 0)])
+        self.assertEqual([told.comes(at) for at in range(6)], [Bases.every()] * 3 + [Bases.rest(6,
+            0)] * 2 + [~Bases.rest(6, 0)])
 
     def test_where(self):
         told = book(program("x = base", "y = number 9", "z = x - y"))
@@ -178,7 +183,8 @@ class Books(unittest.TestCase):
         self.assertEqual(told["z"], Worth.number(2))
 
     def test_worths_have_their_own_periods_and_starts(self):
-        told = book(program("x = base", "y = number 6", "z = x // y", "y = number 2", "u = rest x y", "y = number 50", "y = lesser x y"))
+        told = book(program("x = base", "y = number 6", "z = x // y", "y = number 2", "u = rest x y", "y = number 50",
+                            "y = lesser x y"))
         self.assertEqual((told.period, told.start), (6, 50))
         self.assertEqual([told[name].period for name in "uxyz"], [2, 1, 1, 6])
         self.assertEqual([told[name].start for name in "uxyz"], [2, 2, 50, 2])

@@ -47,20 +47,27 @@ class Commands(Case):
 
     def test_row(self):
         made = Desk()
-        for at, line in enumerate(("x = figures 1 2 1", "y = x ** 2", "stop", "z = first 2 x", "a = base", "x = number 999999999")):
+        for at, line in enumerate(("x = figures 1 2 1", "y = x ** 2", "stop", "z = first 2 x", "a = base",
+                                   "x = number 999999999")):
             self.assertEqual(made.say("row " + line), str(at + 1))
             self.assertEqual((len(made), str(made.program[at])), (at + 1, line))
 
     def test_no_row_of_a_put_or_a_stop(self):
-        self.assert_refused(desk("row x = base"), "row", "row x", "row x =", "row if same x y", "row times 2", "row else", "row end", "row stop stop",
-                            "row x = number 01", "row x = number 1000000000", "row x = number -1", "row X = base", "row abcde = base", "row x = basis",
-                            "row x = base x", "row x = x + 1", "row x = + x x", "row show", "row row stop", "row x = base ; y = base", "row  stop",
-                            "row stop ", " row stop", "row\nstop", "row stop\n", "row x = base\ny = base", "rows stop", "Row stop", "row x=base")
+        self.assert_refused(desk("row x = base"), "row", "row x", "row x =", "row if same x y", "row times 2",
+                            "row else", "row end", "row stop stop",
+                            "row x = number 01", "row x = number 1000000000", "row x = number -1", "row X = base",
+                            "row abcde = base", "row x = basis",
+                            "row x = base x", "row x = x + 1", "row x = + x x", "row show", "row row stop",
+                            "row x = base ; y = base", "row  stop",
+                            "row stop ", " row stop", "row\nstop", "row stop\n", "row x = base\ny = base", "rows stop",
+                            "Row stop", "row x=base")
 
     def test_drop(self):
         made = desk("read x = base ; if same x y ; y = base ; z = base ; else ; stop ; end ; u = base")
-        self.assertEqual((len(made), made.say("drop 2"), made.say("show")), (6, "5", "x = base ; if same x y ; z = base ; else ; stop ; end ; u = base"))
-        self.assertEqual((made.say("drop 3"), made.say("show")), ("4", "x = base ; if same x y ; z = base ; end ; u = base"))
+        self.assertEqual((len(made), made.say("drop 2"), made.say("show")),
+                         (6, "5", "x = base ; if same x y ; z = base ; else ; stop ; end ; u = base"))
+        self.assertEqual((made.say("drop 3"), made.say("show")), ("4",
+                                                                  "x = base ; if same x y ; z = base ; end ; u = base"))
         self.assertEqual((made.say("drop 1"), made.say("show")), ("2", "x = base ; u = base"))
         self.assertEqual((made.say("drop 0"), made.say("drop 0"), made.say("show")), ("1", "0", "-"))
 
@@ -72,7 +79,8 @@ class Commands(Case):
                 made.say(f"drop {at}")
             self.assertEqual(caught.exception.at, at)
         self.assertEqual(fields(made.program), before)
-        self.assert_refused(made, "drop", "drop 00", "drop 01", "drop -1", "drop +1", "drop x", "drop 0 1", "drop 0 0", "drop  0", "drop 0 ", "drop 1" + MANY,
+        self.assert_refused(made, "drop", "drop 00", "drop 01", "drop -1", "drop +1", "drop x", "drop 0 1", "drop 0 0",
+                            "drop  0", "drop 0 ", "drop 1" + MANY,
                             "drop 1.0", "drop 0x0", "drop 1_0", "drop \u0661", "drop 0\n", "Drop 0", "drop")
 
     def test_read(self):
@@ -86,14 +94,18 @@ class Commands(Case):
 
     def test_read_what_is_no_program(self):
         made = desk("row stop")
-        for text, at in (("x", 0), ("x = base ; y", 1), ("end", 0), ("if same x y", 1), ("if same x y ; x = base", 2), (";", 0), ("; x = base", 0),
-                         ("x = base ;", 0), ("x = base ; ; y = base", 1), ("x = base ; ; ; y = base", 1), ("stop ; else", 1), ("x = base; y = base", 0),
-                         ("x = base ; times 01 ; end", 1), ("stop ; stop ; x = number 1000000000", 2), ("read", 0), ("x = base\t", 0)):
+        for text, at in (("x", 0), ("x = base ; y", 1), ("end", 0), ("if same x y", 1), ("if same x y ; x = base", 2),
+                         (";", 0), ("; x = base", 0),
+                         ("x = base ;", 0), ("x = base ; ; y = base", 1), ("x = base ; ; ; y = base", 1),
+                         ("stop ; else", 1), ("x = base; y = base", 0),
+                         ("x = base ; times 01 ; end", 1), ("stop ; stop ; x = number 1000000000", 2), ("read", 0),
+                         ("x = base\t", 0)):
             with self.assertRaises(InvalidText) as caught:
                 made.say("read " + text)
             self.assertEqual(caught.exception.at, at, text)
             self.assertEqual(str(made.program), "stop")
-        self.assert_refused(made, "read ", "read  stop", "read stop ; ", "read stop ;  stop", "read stop\nstop", "read\n", "reads stop", "read stop ")
+        self.assert_refused(made, "read ", "read  stop", "read stop ; ", "read stop ;  stop", "read stop\nstop",
+                            "read\n", "reads stop", "read stop ")
 
     def test_show(self):
         made = desk("row x = base", "row y = figures 1 2")
@@ -103,31 +115,38 @@ class Commands(Case):
     def test_run(self):
         made = desk("read x = figures 1 1 ; y = x * x ; a = let q")
         self.assertEqual((made.say("run 10"), made.say("run 2"), made.say("run 3")),
-                         ("a 0 ; q 0 ; x 1.1 ; y 1.2.1", "a 0 ; q 0 ; x 1.1 ; y 1.0.0.1", "a 0 ; q 0 ; x 1.1 ; y 1.2.1"))
+                         ("a 0 ; q 0 ; x 1.1 ; y 1.2.1", "a 0 ; q 0 ; x 1.1 ; y 1.0.0.1",
+                          "a 0 ; q 0 ; x 1.1 ; y 1.2.1"))
         made = desk("row x = number 99", "row y = x * x")
         self.assertEqual((made.say("run 60"), made.say("run " + MANY)), ("x 1.39 ; y 2.43.21", "x 99 ; y 9801"))
         self.assertEqual(desk("row stop").say("run 2"), "stops 0")
         made = desk(X_LESS)
         self.assertEqual((made.say("run 8"), made.say("run 9")), ("stops 2", "x 1.0 ; y 1.0 ; z 0"))
-        self.assert_refused(made, "run", "run 0", "run 1", "run 02", "run -2", "run x", "run 2 3", "run 1" + MANY, "run 2.0", "run  2", "run 2 ", "run \u0662")
+        self.assert_refused(made, "run", "run 0", "run 1", "run 02", "run -2", "run x", "run 2 3", "run 1" + MANY,
+                            "run 2.0", "run  2", "run 2 ", "run \u0662")
 
     def test_worth(self):
         made = desk("read x = base ; y = number 2 ; z = x // y")
-        self.assertEqual([made.say(f"worth z {rest}") for rest in (0, 1, 2, 3, MANY)], ["b / 2", "(b - 1) / 2", "b / 2", "(b - 1) / 2", "(b - 1) / 2"])
+        self.assertEqual([made.say(f"worth z {rest}") for rest in (0, 1, 2, 3, MANY)],
+                         ["b / 2", "(b - 1) / 2", "b / 2", "(b - 1) / 2", "(b - 1) / 2"])
         self.assertEqual((made.say("worth y 0"), made.say("worth q 7"), made.say("worth abcd 0")), ("2", "0", "0"))
         made = desk("read x = base ; y = number 3 ; z = rest x y ; if same z q ; stop ; end")
-        self.assertEqual([made.say(f"worth {name} {rest}") for name in ("x", "q", "v") for rest in range(4)], ["stops 4", "b", "b", "stops 4",
-                                                                                                           "stops 4", "0", "0", "stops 4"] + ["stops 4", "0", "0", "stops 4"])
-        self.assert_refused(made, "worth", "worth x", "worth 0", "worth 0 x", "worth X 0", "worth abcde 0", "worth x 00", "worth x -1", "worth x 0 0", "worth x y",
+        for name, text in (("x", "b"), ("q", "0"), ("v", "0")):
+            self.assertEqual([made.say(f"worth {name} {rest}") for rest in range(4)], ["stops 4", text, text, "stops 4"])
+        self.assert_refused(made, "worth", "worth x", "worth 0", "worth 0 x", "worth X 0", "worth abcde 0",
+                            "worth x 00", "worth x -1", "worth x 0 0", "worth x y",
                             "worth x 1" + MANY, "worth x1 0", "worth  x 0", "worth x 0 ")
 
     def test_where(self):
         made = desk("read x = base ; y = number 6")
-        self.assertEqual((made.say("where less x y"), made.say("where divides y x"), made.say("where not not not mirrored y"), made.say("where not same q r")),
+        self.assertEqual((made.say("where less x y"), made.say("where divides y x"),
+                          made.say("where not not not mirrored y"), made.say("where not same q r")),
                          ("2 3 4 5", "from 2: 0 of 6", "2 3 4 6", "none"))
         self.assertEqual(desk(X_LESS).say("where not less z y"), "from 18: 0 of 1")
-        self.assert_refused(made, "where", "where not", "where same x", "where same x y z", "where x", "where mirrored x y", "where less x 6", "where less x Y",
-                            "where  less x y", "where less x y ", "where if less x y", "where notless x y", "where same x y ; same y x")
+        self.assert_refused(made, "where", "where not", "where same x", "where same x y z", "where x",
+                            "where mirrored x y", "where less x 6", "where less x Y",
+                            "where  less x y", "where less x y ", "where if less x y", "where notless x y",
+                            "where same x y ; same y x")
 
     def test_book(self):
         made = desk("read x = base ; y = number 2 ; z = x // y ; y = number 50 ; y = x - y")
@@ -135,9 +154,11 @@ class Commands(Case):
         self.assert_refused(made, "book 0", "book x", "book ", "Book", "books")
 
     def test_no_command(self):
-        values = THINGS + (None, True, False, 0, 1, -1, ["show"], ("show",), b"show", Program(), Desk(), Put("x", "base"), Ask("mirrored", "x"))
+        values = THINGS + (None, True, False, 0, 1, -1, ["show"], ("show",), b"show", Program(), Desk(),
+                           Put("x", "base"), Ask("mirrored", "x"))
         self.assert_refused(desk("row stop"), *values)
-        self.assert_refused(desk("row stop"), "", " ", "\n", "x", "show show", "undo", "help", "drop\n0", "show\nshow", "row\tstop", "x" * 2000, "SHOW", "0", "-")
+        self.assert_refused(desk("row stop"), "", " ", "\n", "x", "show show", "undo", "help", "drop\n0", "show\nshow",
+                            "row\tstop", "x" * 2000, "SHOW", "0", "-")
 
     def test_beside_the_other_functions(self):
         for one in SAMPLES:
@@ -150,10 +171,12 @@ class Commands(Case):
             for rest in range(whole.period):
                 tale = whole.tale(rest)
                 for name in one.names:
-                    self.assertEqual(made.say(f"worth {name} {rest}"), f"stops {tale}" if isinstance(tale, int) else str(tale[name]))
+                    self.assertEqual(made.say(f"worth {name} {rest}"), f"stops {tale}" if isinstance(tale,
+                        int) else str(tale[name]))
             for base in (37, 100):
                 if base not in whole.stops() and one.names:
-                    told = [f"{name} {'.'.join(map(str, figures_of(number, base)))}" for name, number in run(one, base).items()]
+                    told = [f"{name} {'.'.join(map(str, figures_of(number, base)))}" for name,
+                            number in run(one, base).items()]
                     self.assertEqual(made.say(f"run {base}"), " ; ".join(told))
 
 
@@ -162,7 +185,8 @@ class Undo(Case):
     def test_behind_each_command(self):
         made = Desk()
         shown = [made.say("show")]
-        for command in ("row x = base", "row stop", "drop 1", "read x = base ; y = base ; stop", "row z = base", "read", "drop 0", "row stop"):
+        for command in ("row x = base", "row stop", "drop 1", "read x = base ; y = base ; stop", "row z = base", "read",
+                        "drop 0", "row stop"):
             if command == "drop 0":
                 self.assertRaises(NoRow, made.say, command)
                 continue
@@ -173,7 +197,8 @@ class Undo(Case):
         while len(shown) > 1:
             self.assertEqual(made.say("show"), shown.pop())
             self.assertIs(made.undo(), True)
-        self.assertEqual((made.say("show"), made.undo(), made.undo(), made.say("show"), len(made)), ("-", False, False, "-", 0))
+        self.assertEqual((made.say("show"), made.undo(), made.undo(), made.say("show"), len(made)),
+                         ("-", False, False, "-", 0))
 
     def test_behind_what_was_taken_back(self):
         made = desk("row x = base", "row y = base")

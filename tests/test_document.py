@@ -52,14 +52,21 @@ EXAMPLES = r'''
 '''
 # The names of the arguments, as the interface tells them; those behind a star by name only.
 PARAMETERS = {
-    "terms": {"Term": "coefficients over", "Term.moved": "k", "Term.is_whole": "rest period", "Term.sure_from": "", "Term.__call__": "base"},
-    "bases": {"Bases.none": "", "Bases.every": "", "Bases.of": "bases", "Bases.rest": "period rest", "Bases.upward": "first",
+    "terms": {"Term": "coefficients over", "Term.moved": "k", "Term.is_whole": "rest period", "Term.sure_from": "",
+              "Term.__call__": "base"},
+    "bases": {"Bases.none": "", "Bases.every": "", "Bases.of": "bases", "Bases.rest": "period rest",
+              "Bases.upward": "first",
               "Bases.below": "number", "Bases.nth": "k"},
-    "worths": {"Worth.number": "k", "Worth.base": "", "Worth.figures": "figures", "Worth.__call__": "base", "Worth.figure": "k", "Worth.first": "k",
-               "Worth.last": "k", "Worth.joined": "other", "Worth.common": "other", "Worth.lesser": "other", "Worth.same": "other",
-               "Worth.less": "other", "Worth.divides": "other", "Worth.within": "bases", "Worth.turned": "", "Worth.mirrored": ""},
-    "books": {"book": "program", "Book.stops": "at", "Book.comes": "at", "Book.where": "test", "Book.tale": "rest", "Book.__call__": "base"},
-    "alike": {"alike": "p q within", "least_parting": "p q within", "partings": "p q within", "sure": "program test within",
+    "worths": {"Worth.number": "k", "Worth.base": "", "Worth.figures": "figures", "Worth.__call__": "base",
+               "Worth.figure": "k", "Worth.first": "k",
+               "Worth.last": "k", "Worth.joined": "other", "Worth.common": "other", "Worth.lesser": "other",
+               "Worth.same": "other",
+               "Worth.less": "other", "Worth.divides": "other", "Worth.within": "bases", "Worth.turned": "",
+               "Worth.mirrored": ""},
+    "books": {"book": "program", "Book.stops": "at", "Book.comes": "at", "Book.where": "test", "Book.tale": "rest",
+              "Book.__call__": "base"},
+    "alike": {"alike": "p q within", "least_parting": "p q within", "partings": "p q within",
+              "sure": "program test within",
               "least_breach": "program test within", "needless": "program"},
     "papers": {"paper": "program", "paper_holds": "program value"},
     "desk": {"Desk": "", "Desk.say": "command", "Desk.undo": ""},
@@ -83,7 +90,8 @@ class Document(unittest.TestCase):
                 self.assertEqual(found, told.split(), name)
 
     def test_attributes_are_set_when_objects_are_created(self):
-        for one, names in ((Term(1, 2), "coefficients over"), (Bases.rest(3, 1), "start period rests lone"), (Worth.base(), "start period terms lone"),
+        for one, names in ((Term(1, 2), "coefficients over"), (Bases.rest(3, 1), "start period rests lone"),
+                           (Worth.base(), "start period terms lone"),
                            (book(Program()), "names start period"), (Desk(), "program")):
             for name in names.split():
                 self.assertIn(name, vars(one))
@@ -96,7 +104,8 @@ class Together(unittest.TestCase):
         whole, worth, bases, term, told = book(p), Worth.base() // 3, Bases.rest(3, 1), Term(1, 2, over=3), paper(p)
         before = [fields(one) for one in (p, whole, worth, bases, term)]
         worth + worth, worth.turned(), worth.within(bases), worth | 3, worth.same(4), worth < 3, worth(5), worth.bases
-        bases | Bases.of([5]), ~bases, bases.nth(3), bases.below(9), bases <= bases, str(bases), bases.lowest, bases.size, 4 in bases
+        bases | Bases.of([5]), ~bases, bases.nth(3), bases.below(9), bases <= bases, str(bases)
+        bases.lowest, bases.size, 4 in bases
         term + 1, -term, term.moved(3), term ** 2, str(term), term.degree, term.sure_from()
         whole["x"], whole.tale(1), whole.stops(), whole == whole, partings(p, p, within=bases), paper(p)
         self.assertEqual([fields(one) for one in (p, whole, worth, bases, term)], before)
@@ -111,7 +120,8 @@ class Together(unittest.TestCase):
             self.assertEqual(first, again)
 
     def test_objects_with_equality_are_equal_to_nothing_of_another_class(self):
-        values = (Term(), Bases.none(), Worth.number(0), book(Program()), Program(), Put("x", "base"), told_test(["mirrored", "x"]), None, 0, "", (), [], {})
+        values = (Term(), Bases.none(), Worth.number(0), book(Program()), Program(), Put("x", "base"),
+                  told_test(["mirrored", "x"]), None, 0, "", (), [], {})
         for at, one in enumerate(values):
             for by, other in enumerate(values):
                 self.assertIs(one == other, at == by)

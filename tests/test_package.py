@@ -36,8 +36,8 @@ METHODS = {
     "Not": "__init__ __eq__ __str__",
     "Program": "__init__ read without replaced __call__ __len__ __getitem__ __add__ __eq__ __str__",
     "Sheet": "__init__ drop made trial within __len__ __getitem__ __setitem__ __iadd__",
-    "Term": "__init__ degree __call__ moved is_whole sure_from __add__ __radd__ __sub__ __rsub__ __mul__ __rmul__ __pow__ "
-            "__neg__ __eq__ __str__",
+    "Term": "__init__ degree __call__ moved is_whole sure_from __add__ __radd__ __sub__ __rsub__ __mul__ __rmul__ "
+            "__pow__ __neg__ __eq__ __str__",
     "Bases": "none every of rest upward lowest size below nth __and__ __or__ __sub__ __xor__ __invert__ __le__ __lt__ "
              "__ge__ __gt__ __eq__ __contains__ __bool__ __str__",
     "Worth": "number base figures bases __call__ turned least greatest total many root figure first last joined common "
@@ -202,6 +202,38 @@ class Rules(unittest.TestCase):
                 stored = {one.attr for one in ast.walk(node)
                           if isinstance(one, ast.Attribute) and isinstance(one.ctx, ast.Store)}
                 self.assertFalse(methods & stored, (path, node.name))
+
+    def test_names_of_properties_and_class_methods_are_nothing_else(self):
+        """L5."""
+        marked, others = set(), set()
+        for _, tree in trees():
+            for node in ast.walk(tree):
+                if isinstance(node, ast.ClassDef):
+                    for one in [one for one in node.body if isinstance(one, ast.FunctionDef)]:
+                        (marked if one.decorator_list else others).add(one.name)
+                elif isinstance(node, ast.Attribute) and isinstance(node.ctx, ast.Store):
+                    others.add(node.attr)
+        self.assertTrue({"read", "rest", "lowest", "degree"} <= marked)
+        self.assertFalse(marked & others)
+
+    def test_what_operators_ask_for(self):
+        """L5: as some classes have operators and an order, what is changed, sorted and compared is plain."""
+        for path, tree in trees():
+            alone = {id(node.value) for node in ast.walk(tree) if isinstance(node, ast.Return)}
+            for node in ast.walk(tree):
+                self.assertNotIsInstance(node, (ast.AugAssign, ast.GeneratorExp), (path, getattr(node, "lineno", None)))
+                if isinstance(node, ast.Name) and node.id == "NotImplemented":
+                    self.assertIn(id(node), alone, (path, node.lineno))
+                if isinstance(node, ast.Call) and isinstance(node.func, ast.Name) and node.func.id in ("sorted", "min",
+                    "max"):
+                    self.assertTrue(any(self.is_plain(one) for one in node.args), (path, node.lineno))
+
+    def is_plain(self, node):
+        if isinstance(node, ast.ListComp):
+            return self.is_plain(node.elt)
+        if isinstance(node, ast.Call) and isinstance(node.func, ast.Name):
+            return node.func.id in ("int", "str", "len")
+        return isinstance(node, ast.Constant) and isinstance(node.value, int)
 
     def test_nothing_has_the_name_of_a_class_or_an_import_of_its_file(self):
         """L15."""

@@ -37,8 +37,10 @@ class Making(unittest.TestCase):
 
     def test_lowest_terms(self):
         for coefficients, over, kept, below in (
-            ((), 1, (), 1), ((0, 0), 12, (), 1), ((0, 2, 0), 4, (0, 1), 2), ((6, 4), 2, (3, 2), 1), ((6, 4), 4, (3, 2), 2),
-            ((-3,), 6, (-1,), 2), ((0, 1, 1), 2, (0, 1, 1), 2), ((6, 0, 9, 0), 12, (2, 0, 3), 4), ((5, 7), 1, (5, 7), 1),
+            ((), 1, (), 1), ((0, 0), 12, (), 1), ((0, 2, 0), 4, (0, 1), 2), ((6, 4), 2, (3, 2), 1),
+            ((6, 4), 4, (3, 2), 2),
+            ((-3,), 6, (-1,), 2), ((0, 1, 1), 2, (0, 1, 1), 2), ((6, 0, 9, 0), 12, (2, 0, 3), 4),
+            ((5, 7), 1, (5, 7), 1),
         ):
             term = Term(*coefficients, over=over)
             self.assertEqual((term.coefficients, term.over), (kept, below))
@@ -86,7 +88,8 @@ class Values(unittest.TestCase):
         self.assertEqual([Term()(base) for base in (-7, 0, 5)], [0, 0, 0])
 
     def test_values_that_are_not_whole(self):
-        for term, wrong in ((Term(1, 1, over=2), (0, 2, -4)), (Term(1, over=2), (-1, 0, 1, 9)), (Term(0, 0, 1, over=3), (1, 2, -1))):
+        for term, wrong in ((Term(1, 1, over=2), (0, 2, -4)), (Term(1, over=2), (-1, 0, 1, 9)),
+                            (Term(0, 0, 1, over=3), (1, 2, -1))):
             for base in wrong:
                 with self.assertRaises(NotWhole):
                     term(base)
@@ -234,7 +237,8 @@ class Texts(unittest.TestCase):
             (Term(-7, 0, 3), "3 b^2 - 7"), (Term(1, -1, 1, -1), "-b^3 + b^2 - b + 1"), (Term(1, 1), "b + 1"),
             (Term(0, 0, 1, over=2), "b^2 / 2"), (Term(0, -3, over=2), "-3 b / 2"), (Term(-1, over=3), "-1 / 3"),
             (Term(-2, 1, 1, over=2), "(b^2 + b - 2) / 2"), (Term(-1, -1, over=4), "(-b - 1) / 4"),
-            (-Term(0, 1, 1, over=2) * 4, "-2 b^2 - 2 b"), (Term(*[0] * 10, 12), "12 b^10"), (Term(0, 1, over=10), "b / 10"),
+            (-Term(0, 1, 1, over=2) * 4, "-2 b^2 - 2 b"), (Term(*[0] * 10, 12), "12 b^10"),
+            (Term(0, 1, over=10), "b / 10"),
         ):
             self.assertEqual(str(term), text)
 

@@ -24,7 +24,8 @@ SAMPLES = (
 )
 LINES = (
     Worth.number(0), Worth.number(3), BASE, BASE + 1, BASE * 2 + 3, BASE * 4 - 5, BASE * 5 + 5, BASE * 3, BASE * 2 - 4,
-    (BASE + 1).within(Bases.rest(2, 0)) | (BASE * 2 - 1), BASE.within(Bases.rest(3, 1)), BASE.within(Bases.of([2, 6, 9])),
+    (BASE + 1).within(Bases.rest(2, 0)) | (BASE * 2 - 1), BASE.within(Bases.rest(3, 1)),
+    BASE.within(Bases.of([2, 6, 9])),
     (BASE - BASE).within(Bases.of([4, 8])) | (BASE + 5), NOWHERE,
 )
 
@@ -160,10 +161,13 @@ class Attributes(Case):
             (BASE % 4, 2, 4, ("0", "1", "2", "3"), ()), (BASE % 4 % 2, 2, 2, ("0", "1"), ()),
             (BASE - 5, 5, 1, ("b - 5",), (None,) * 3), ((BASE - 5) | 0, 5, 1, ("b - 5",), (0,) * 3),
             (Worth.number(5).lesser(BASE), 5, 1, ("5",), (2, 3, 4)), (5 % BASE, 6, 1, ("5",), (1, 2, 1, 0)),
-            (BASE // (BASE - 3), 7, 1, ("1",), (None, None, 4, 2, 2)), (Worth.figures(9) % 3, 10, 1, ("0",), (None,) * 8),
-            (BASE.total(), 2, 1, ("1",), ()), (BASE.many(), 2, 1, ("2",), ()), ((BASE + 2).root(), 4, 1, ("3",), (1, 1)),
+            (BASE // (BASE - 3), 7, 1, ("1",), (None, None, 4, 2, 2)), (Worth.figures(9) % 3, 10, 1, ("0",),
+                (None,) * 8),
+            (BASE.total(), 2, 1, ("1",), ()), (BASE.many(), 2, 1, ("2",), ()),
+            ((BASE + 2).root(), 4, 1, ("3",), (1, 1)),
         ):
-            self.assertEqual((worth.start, worth.period, tuple(map(str, worth.terms)), worth.lone), (start, period, texts, lone))
+            self.assertEqual((worth.start, worth.period, tuple(map(str, worth.terms)), worth.lone),
+                             (start, period, texts, lone))
 
     def test_example(self):
         half = (BASE * BASE + 1) // 2
@@ -372,7 +376,8 @@ class Comparisons(Case):
     def test_plain_numbers(self):
         self.assertEqual((BASE >= 2, BASE > 2, BASE > 1, BASE <= 100, 2 <= BASE, 2 < BASE, 1 < BASE, 5 >= BASE),
                          (True, False, True, False, True, False, True, False))
-        self.assertEqual((BASE % 3 < 3, 3 > BASE % 3, BASE % 3 <= 2, BASE % 3 < 2, 2 >= BASE % 3), (True, True, True, False, True))
+        self.assertEqual((BASE % 3 < 3, 3 > BASE % 3, BASE % 3 <= 2, BASE % 3 < 2, 2 >= BASE % 3),
+                         (True, True, True, False, True))
 
     def test_numbers_in_different_bases(self):
         even, odd = BASE.within(Bases.rest(2, 0)), BASE.within(Bases.rest(2, 1))
@@ -399,7 +404,8 @@ class Comparisons(Case):
 
     def test_within(self):
         for one in SAMPLES:
-            for bases in (Bases.none(), Bases.every(), Bases.of([3, 8]), Bases.rest(3, 1), ~Bases.rest(4, 2) & Bases.upward(9)):
+            for bases in (Bases.none(), Bases.every(), Bases.of([3, 8]), Bases.rest(3, 1),
+                          ~Bases.rest(4, 2) & Bases.upward(9)):
                 self.assert_worth(one.within(bases), lambda base: one(base) if base in bases else None)
 
     def test_the_one_or_the_other(self):
