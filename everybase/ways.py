@@ -4,7 +4,7 @@ Beside a result stands what a paper tells of it: a tuple of terms, tuples of
 terms and integers. It is followed by the base from which all this is sure.
 """
 
-from everybase.parts import apart, divided, later, latest, of_figures, raised, shared, spelling, written
+from everybase.parts import apart, divided, later, of_figures, raised, shared, spelling, written
 from everybase.polys import BASE, ONE, ZERO, less_one, minus, plain, plus, power, sign, sure_since, times
 
 SPELT = ("turned", "sum", "many", "figure", "first", "last")
@@ -13,7 +13,7 @@ SPELT = ("turned", "sum", "many", "figure", "first", "last")
 def done(deed, given, part):
     """The result of a deed with these arguments (None if its row stops), what a paper tells, and the base."""
     if deed == "figures":
-        return written([plain(one) for one in given]), (), latest([max([int(one) for one in given]) + 1])
+        return written([plain(one) for one in given]), (), later(2, max([int(one) for one in given]) + 1)
     if deed == "number":
         return plain(given[0]), (), 2
     if deed == "base":
