@@ -127,10 +127,11 @@ def _divides(x, y, part):
     """What comes of the test whether y is a multiple of x."""
     if x == ZERO:
         return y == ZERO, (), 2 if y == ZERO else sure_since(less_one(y))
+    # As the rest is surely from 0 on and less than x, x is surely at least 1.
     quotient, rest, start = divided(y, x, part)
     if rest != ZERO:
         start = later(start, sure_since(less_one(rest)))
-    return rest == ZERO, (quotient, rest), later(start, sure_since(less_one(x)))
+    return rest == ZERO, (quotient, rest), start
 
 
 def _mirrored(x, part):

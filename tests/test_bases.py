@@ -181,6 +181,12 @@ class Operators(unittest.TestCase):
         self.assertEqual((far - Bases.of([5])).lone, (10 ** 30,))
         self.assertEqual(str(far & Bases.upward(10 ** 29)), str(10 ** 30))
         self.assertTrue(far <= Bases.every())
+        self.assertEqual((Bases.of([5]) | Bases.of([10 ** 30])), far)
+        self.assertEqual((Bases.of([5]) ^ Bases.of([10 ** 30])), far)
+        self.assertEqual((Bases.of([5]) - Bases.upward(10 ** 30)), Bases.of([5]))
+        self.assertEqual(Bases.upward(10 ** 30) | Bases.of([5]), Bases.of([5]) | Bases.upward(10 ** 30))
+        self.assertEqual(str(Bases.upward(10 ** 30) | Bases.of([5])), f"5, from {10 ** 30}: 0 of 1")
+        self.assertFalse(Bases.upward(10 ** 30) <= Bases.of([5]))
         self.assertTrue(10 ** 30 in far and 10 ** 30 - 1 not in far)
         self.assertEqual((far.below(10 ** 30), far.below(10 ** 30 + 1), far.nth(1)), (1, 2, 10 ** 30))
 

@@ -276,6 +276,25 @@ class Steps(unittest.TestCase):
             self.assertIs(paper_holds(one, told), holds)
             self.assertIs(right_paper(one, told), holds)
 
+    def test_common_with_coefficients_that_are_not_whole(self):
+        # b * (b - 1) / 2 goes by 3 in the bases of one rest by 3, but its coefficients are halves there.
+        one = lines("x = base ; y = number 1 ; u = x - y ; x = x * u ; y = number 2 ; x = x // y ; y = number 3 ; "
+                    "z = common x y")
+        half = (2, 0, -1, 1)
+
+        def tales(period):
+            found = []
+            for r in range(period):
+                z = 1 if r % 3 == 2 else 3
+                found.append((BASE, ("put", (1, 1)), ("put", (1, -1, 1)), ("put", (1, 0, -1, 1)), ("put", (1, 2)),
+                              ("put", half, half, (1,)), ("put", (1, 3)),
+                              ("put", (1, z), (2 * z, 0, -1, 1), (1, 3 // z), 0, 1, 3 // z)))
+            return tuple(found)
+
+        for period, holds in ((6, True), (12, True), (3, False), (9, False), (1, False), (2, False)):
+            self.assertIs(paper_holds(one, (3, period, tales(period))), holds, period)
+            self.assertIs(right_paper(one, (3, period, tales(period))), holds, period)
+
     def test_common_with_other_numbers(self):
         # 7 * 1 - 3 * 2 is 1, too; 14 and 6 have 2 in common.
         ahead = (("put", (1, 14)), ("put", (1, 6)))
