@@ -209,9 +209,9 @@ def _both(sign, ones, others):
 
 
 def _listed(bases, other, wanted, end):
-    """The list of the bases of a set below an end that are, or are not, in another one."""
+    """The list of the bases of a set below an end, not below its start, that are, or are not, in another one."""
     # Lone bases may be far apart, so what lies between them is not gone through.
-    found = [base for base in bases.lone if base < end and _has(other, base) == wanted]
+    found = [base for base in bases.lone if _has(other, base) == wanted]
     if len(bases.rests) > 0:
         for base in range(bases.start, end):
             if base % bases.period in bases.among_rests and _has(other, base) == wanted:

@@ -23,8 +23,6 @@ def reduced(over, coefficients):
         if common == 1:
             break
         common = gcd(common, one)
-    if many == 0:
-        return ZERO
     if common == 1:
         return (over,) + kept
     return (over // common,) + tuple([one // common for one in kept])

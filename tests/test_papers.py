@@ -295,6 +295,17 @@ class Steps(unittest.TestCase):
             self.assertIs(paper_holds(one, (3, period, tales(period))), holds, period)
             self.assertIs(right_paper(one, (3, period, tales(period))), holds, period)
 
+    def test_common_with_a_rest(self):
+        # By 2 the coefficients of b ** 3 are divisible by 8 along the even bases, but not along the odd ones.
+        one = lines("x = base ; x = x ** 3 ; y = number 8 ; z = common x y")
+        cube = ("put", (1, 0, 0, 0, 1))
+        even = (BASE, cube, ("put", (1, 8)), ("put", (1, 8), (8, 0, 0, 0, 1), (1, 1), 0, 1, 1))
+        odd = (BASE, cube, ("put", (1, 8)), ("put", (1, 1), (1, 0, 0, 0, 1), (1, 8), 0, 1, 8))
+        for period, holds in ((8, True), (2, False), (4, False), (16, True)):
+            told = (2, period, (even, odd) * (period // 2))
+            self.assertIs(paper_holds(one, told), holds, period)
+            self.assertIs(right_paper(one, told), holds, period)
+
     def test_common_with_other_numbers(self):
         # 7 * 1 - 3 * 2 is 1, too; 14 and 6 have 2 in common.
         ahead = (("put", (1, 14)), ("put", (1, 6)))
