@@ -19,6 +19,7 @@ DEEDS = tuple(text.replace(" ; ", "\n") for text in (
     "x = figures 2 0 0 ; y = number 3 ; z = x // y ; u = turned z",
     "x = figures 9 0 4 ; y = least x ; z = greatest x", "x = base ; y = number 7 ; y = x - y ; z = x * y ; z = least z",
     "x = figures 8 7 6 ; y = sum x ; z = many x ; u = root x", "y = sum x ; z = many x ; u = root x ; x = turned x",
+    "x = base ; y = number 2 ; x = x - y ; x = x * x ; z = root x",
     "x = base ; x = x * x ; y = number 2 ; x = x // y ; z = root x ; u = sum x",
     "x = base ; y = root x ; z = x + x ; z = root z",
     "x = figures 4 5 6 ; y = figure 0 x ; z = figure 2 x ; u = figure 3 x",

@@ -20,7 +20,7 @@ SAMPLES = (
     BASE * 5 - 5, Worth.figures(1, 0, 0), Worth.figures(1, 2, 1), Worth.figures(7), Worth.figures(0, 0, 3, 1),
     (BASE * BASE + 1) // 2, BASE ** 3 - BASE * 100 - 7, BASE // 3, BASE % 4, BASE.within(Bases.of([5, 9, 12])),
     (BASE + 2).within(Bases.rest(3, 1)) | 8, (BASE * BASE - 1).within(Bases.rest(2, 0)),
-    (BASE ** 2 // 3 + 5).within(~Bases.of([2, 7])), NOWHERE,
+    (BASE ** 2 // 3 + 5).within(~Bases.of([2, 7])), (BASE - 2) ** 2, NOWHERE,
 )
 LINES = (
     Worth.number(0), Worth.number(3), BASE, BASE + 1, BASE * 2 + 3, BASE * 4 - 5, BASE * 5 + 5, BASE * 3, BASE * 2 - 4,
