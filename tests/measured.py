@@ -29,7 +29,7 @@ DEEDS = tuple(text.replace(" ; ", "\n") for text in (
     "x = base ; y = number 12 ; z = common x y ; u = common y x", "x = figures 2 4 ; y = figures 3 3 ; z = common x y",
     "x = figures 2 4 ; y = figures 3 6 ; z = common x y", "x = base ; z = common x y ; u = common y x",
     "x = figures 1 1 0 ; y = number 2 ; x = x // y ; z = number 6 ; z = common z x",
-    "x = number 12 ; y = number 18 ; z = common x y",
+    "x = number 12 ; y = number 18 ; z = common x y", "x = base ; y = number 2 ; x = x - y ; z = common x x",
     "x = base ; y = number 40 ; z = lesser x y ; u = lesser y x", "x = base ; z = lesser x x ; u = lesser x y",
 ))
 TESTS = tuple(text.replace(" ; ", "\n") for text in (
